@@ -3,12 +3,15 @@ package outcry
 
 import (
 	"outcry/api"
+	"outcry/book"
 	"outcry/wire"
 )
 
 // Market for one thing.
 type Market struct {
-	look api.Look
+	config api.Config
+	look   api.Look
+	book   *book.Book
 }
 
 // New makes a market (P3).
@@ -16,14 +19,27 @@ func New(c api.Config) (*Market, api.Errno) {
 	if !isConfig(c) {
 		return nil, api.ErrConfig
 	}
-	return &Market{look: api.Look{Phase: api.Opening, Reference: c.Reference}}, api.OK
+	look := api.Look{Phase: api.Opening, Reference: c.Reference}
+	return &Market{config: c, look: look, book: book.New()}, api.OK
 }
 
-// Send takes a command (P4 to P7). It is not built yet: it answers nothing, and does nothing.
-func (m *Market) Send(command []byte) []byte { return nil }
+// Send takes a command, and tells the events that it makes (P4 to P6). The
+// phase does not turn yet: a tick does no more than set the time.
+func (m *Market) Send(command []byte) (told []byte) {
+	defer func() {
+		if gaveUp := recover(); gaveUp != nil {
+			// The command is read ahead of all else: nothing is changed yet.
+			// As in Decode, what is no Fault is a bug.
+			_ = gaveUp.(wire.Fault)
+			told = m.tell(rejected(0, api.Malformed))
+		}
+	}()
+	c := wire.NewReader(command).Command()
+	return m.tell(m.obey(c)...)
+}
 
-// Orders tells the live orders (P8): none, as long as Send accepts none.
-func (m *Market) Orders() []api.Order { return nil }
+// Orders tells the live orders (P8).
+func (m *Market) Orders() []api.Order { return m.book.Orders() }
 
 // Look tells how the market stands (P8).
 func (m *Market) Look() api.Look { return m.look }

@@ -1,4 +1,4 @@
-// Package wire holds what events are as bytes: it writes them, and reads them back.
+// Package wire holds what commands and events are as bytes: it reads both, and writes events.
 package wire
 
 import (
@@ -35,7 +35,7 @@ var layouts = [...][]field{
 }
 
 const (
-	kindWidth   = 1
+	byteWidth   = 1
 	numberWidth = 4
 	longWidth   = 8
 )

@@ -5,14 +5,14 @@ import "outcry/api"
 // Fault is what a Reader panics with where it gives up; it panics with nothing else.
 type Fault struct {
 	Errno api.Errno
-	At    int // the number of bytes ahead of the event that can't be read
+	At    int // the number of bytes ahead of what can't be read
 }
 
-// Reader reads events from bytes, one behind the other.
+// Reader reads from bytes: events, one behind the other, or a command.
 type Reader struct {
 	bytes []byte
 	at    int // how many bytes are read
-	start int // how many stand ahead of the event that is being read
+	start int // how many stand ahead of what is being read
 }
 
 // NewReader makes a reader that stands ahead of b.
@@ -30,16 +30,26 @@ func (r *Reader) Event() api.Event {
 	r.start = r.at
 	// The kind is held against the layouts ahead of all else: without it
 	// nobody knows how long the event should be.
-	kind := int(r.take(kindWidth))
-	if !isKind(kind) {
-		r.giveUp(api.ErrKind)
-	}
-	seq := int(r.take(numberWidth))
+	kind := r.choice(api.Turned)
+	seq := r.number()
 	var v [fields]int64
 	for _, f := range layouts[kind] {
 		v[f] = int64(r.take(width(f)))
 	}
 	return event(kind, seq, v)
+}
+
+// choice reads a byte that is one of the numbers from 1 to last, or gives up.
+func (r *Reader) choice(last int) int {
+	n := int(r.take(byteWidth))
+	if n < 1 || n > last {
+		r.giveUp(api.ErrKind)
+	}
+	return n
+}
+
+func (r *Reader) number() int {
+	return int(r.take(numberWidth))
 }
 
 // take reads n bytes as one number, the highest byte first.

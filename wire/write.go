@@ -20,7 +20,7 @@ func Fits(e api.Event) bool {
 
 // Append puts the bytes of an event that fits behind b.
 func Append(b []byte, e api.Event) []byte {
-	b = appendBytes(b, int64(e.Kind), kindWidth)
+	b = appendBytes(b, int64(e.Kind), byteWidth)
 	b = appendBytes(b, int64(e.Seq), numberWidth)
 	v := values(e)
 	for _, f := range layouts[e.Kind] {
