@@ -1,4 +1,4 @@
-// Package book holds the live orders of a market, gives them in the order of priority, and finds the call's price.
+// Package book holds the live orders of a market, gives them in the order of priority, finds the call's price, and trades.
 package book
 
 import (
@@ -28,7 +28,7 @@ func New() *Book {
 }
 
 // Add takes in an order that is accepted.
-func (b *Book) Add(o api.Order) {
+func (b *Book) Add(o api.Order) *Order {
 	added := &Order{Order: o, turn: len(b.ids)}
 	b.ids[o.Id] = struct{}{}
 	queue := b.queues[o.Side]
@@ -38,11 +38,33 @@ func (b *Book) Add(o api.Order) {
 		at = len(queue)
 	}
 	b.queues[o.Side] = slices.Insert(queue, at, added)
+	return added
 }
 
 // Remove takes out an order, which is not live any more.
 func (b *Book) Remove(o *Order) {
-	b.queues[o.Side] = slices.DeleteFunc(b.queues[o.Side], func(other *Order) bool { return other == o })
+	b.drop(func(other *Order) bool { return other == o })
+}
+
+// dropTraded takes out the orders that were traded whole. It waits till the
+// book is gone through: an iterator must not lose its place.
+func (b *Book) dropTraded() {
+	b.drop(func(o *Order) bool { return o.Rest == 0 })
+}
+
+func (b *Book) drop(isGone func(o *Order) bool) {
+	for side, queue := range b.queues {
+		b.queues[side] = slices.DeleteFunc(queue, isGone)
+	}
+}
+
+// Release ends all waiting. The queues have waiting orders in their places already.
+func (b *Book) Release() {
+	for _, queue := range b.queues {
+		for _, o := range queue {
+			o.Waiting = false
+		}
+	}
 }
 
 // Buys goes through the Buy orders in the book, in the order of priority.
@@ -51,10 +73,18 @@ func (b *Book) Buys() iter.Seq[*Order] { return b.inPriority(api.Buy) }
 // Sells goes through the Sell orders in the book, in the order of priority.
 func (b *Book) Sells() iter.Seq[*Order] { return b.inPriority(api.Sell) }
 
+// facing goes through the orders that one of a side may trade with.
+func (b *Book) facing(side int) iter.Seq[*Order] {
+	if side == api.Buy {
+		return b.Sells()
+	}
+	return b.Buys()
+}
+
 func (b *Book) inPriority(side int) iter.Seq[*Order] {
 	return func(yield func(*Order) bool) {
 		for _, o := range b.queues[side] {
-			if !o.Waiting && !yield(o) {
+			if o.isInBook() && !yield(o) {
 				return
 			}
 		}
@@ -93,15 +123,17 @@ func (b *Book) Total(side int) int {
 	return sum
 }
 
-// Orders tells all live orders, in the order in which they were accepted.
-func (b *Book) Orders() []api.Order {
+// Live gives all live orders, in the order in which they were accepted.
+func (b *Book) Live() []*Order {
 	live := slices.Concat(b.queues[:]...)
 	slices.SortFunc(live, func(one, other *Order) int { return cmp.Compare(one.turn, other.turn) })
-	var told []api.Order
-	for _, o := range live {
-		told = append(told, o.Order)
-	}
-	return told
+	return live
+}
+
+// isInBook passes over an order without a rest too: what was just traded whole
+// is not dropped yet.
+func (o *Order) isInBook() bool {
+	return !o.Waiting && o.Rest > 0
 }
 
 // limit tells the worst price that an order takes.

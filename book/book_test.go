@@ -70,8 +70,38 @@ func TestPriorityStaysBehindReduceAndRemove(t *testing.T) {
 func TestWaitingOrdersArePassedOver(t *testing.T) {
 	b := bookOf(sell, api.Order{Type: limit, Price: 100}, api.Order{Type: atClose, Price: 100}, api.Order{Type: limit, Price: 100})
 	wantIds(t, "Sells", ids(b.Sells()), 1, 3)
-	b.Find(2).Waiting = false
+	b.Release()
 	wantIds(t, "Sells", ids(b.Sells()), 1, 2, 3)
+}
+
+func TestReleaseEndsAllWaiting(t *testing.T) {
+	b := New()
+	b.Release()
+	b.Add(api.Order{Id: 1, Side: sell, Type: atClose, Price: 3, Rest: 2, Waiting: true})
+	b.Add(api.Order{Id: 2, Side: buy, Type: atClose, Price: 3, Rest: 2, Waiting: true})
+	b.Add(api.Order{Id: 3, Side: buy, Type: limit, Price: 3, Rest: 2})
+	b.Release()
+	for _, o := range b.Live() {
+		if o.Waiting {
+			t.Errorf("%+v waits", o.Order)
+		}
+	}
+	wantIds(t, "Buys", ids(b.Buys()), 2, 3)
+	wantIds(t, "Sells", ids(b.Sells()), 1)
+}
+
+// An order that was just traded whole is passed over, though it is not dropped yet.
+func TestOrdersWithoutARestArePassedOver(t *testing.T) {
+	b := bookOf(buy, mixed...)
+	b.Find(3).Rest = 0
+	b.Find(7).Rest = 0
+	wantIds(t, "Buys", ids(b.Buys()), 6, 9, 10, 2, 1, 4, 11, 8)
+	var seen []int
+	for o := range b.Buys() {
+		seen = append(seen, o.Id)
+		b.Find(2).Rest = 0
+	}
+	wantIds(t, "Buys, with 2 traded meanwhile", seen, 6, 9, 10, 1, 4, 11, 8)
 }
 
 func TestGoingThroughStopsEarly(t *testing.T) {
@@ -139,7 +169,15 @@ func TestIdsAreKnownOnceAccepted(t *testing.T) {
 	}
 }
 
-func TestOrdersCountAndTotal(t *testing.T) {
+func live(b *Book) []api.Order {
+	var orders []api.Order
+	for _, o := range b.Live() {
+		orders = append(orders, o.Order)
+	}
+	return orders
+}
+
+func TestLiveCountAndTotal(t *testing.T) {
 	b := New()
 	b.Add(api.Order{Id: 5, Side: sell, Type: limit, Price: 3, Rest: 7})
 	b.Add(api.Order{Id: 4, Side: buy, Type: atClose, Price: 3, Rest: 2, Waiting: true})
@@ -152,13 +190,13 @@ func TestOrdersCountAndTotal(t *testing.T) {
 		{Id: 4, Side: buy, Type: atClose, Price: 3, Rest: 2, Waiting: true},
 		{Id: 6, Side: sell, Type: market, Rest: 8},
 	}
-	if got := b.Orders(); !slices.Equal(got, want) {
-		t.Errorf("Orders() = %+v, want %+v", got, want)
+	if got := live(b); !slices.Equal(got, want) {
+		t.Errorf("Live() = %+v, want %+v", got, want)
 	}
 	b.Remove(b.Find(5))
 	b.Add(api.Order{Id: 1, Side: buy, Type: moo, Rest: 1})
 	want = append(want[1:], api.Order{Id: 1, Side: buy, Type: moo, Rest: 1})
-	if got := b.Orders(); !slices.Equal(got, want) || b.Count() != 3 {
-		t.Errorf("Orders() = %+v, Count() = %d, want %+v", got, b.Count(), want)
+	if got := live(b); !slices.Equal(got, want) || b.Count() != 3 {
+		t.Errorf("Live() = %+v, Count() = %d, want %+v", got, b.Count(), want)
 	}
 }

@@ -1,11 +1,9 @@
 package outcry
 
 import (
-	"slices"
 	"testing"
 
 	"outcry/api"
-	"outcry/wire"
 )
 
 func openMarket(t *testing.T) *Market {
@@ -32,49 +30,14 @@ func TestSeqsBehindTheHighest(t *testing.T) {
 	if len(events) != 2 || events[0].Seq != 0 || events[1].Seq != 1 || m.Look().Seq != 1 {
 		t.Fatalf("a new order: %+v, Look() = %+v, want the Seqs 0 and 1", events, m.Look())
 	}
-}
-
-// No tick turns the phase yet: it is set here by hand.
-func TestTheReasonPhase(t *testing.T) {
-	taken := [][]int{
-		api.Opening: {api.Limit, api.Market, api.Moo, api.Loc},
-		api.Trading: {api.Limit, api.Market, api.Loc},
-		api.Closing: {api.Limit, api.Market, api.Loc},
-		api.Closed:  {},
+	m.look.Seq = 4294967293
+	events, _, _ = Decode(m.Send([]byte{4, 0, 0, 0, 30}))
+	if len(events) != 7 || m.Look().Seq != 4 {
+		t.Fatalf("a tick: %+v, Look() = %+v, want 7 events, to the Seq 4", events, m.Look())
 	}
-	for phase, types := range taken {
-		for _, orderType := range []int{api.Limit, api.Market, api.Moo, api.Loc} {
-			right, wrong := 0, 1
-			if orderType == api.Limit || orderType == api.Loc {
-				right, wrong = 1, 0
-			}
-			// want is told if the phase takes the type, else Phase.
-			look := func(m *Market, want api.Reason, qty int) {
-				t.Helper()
-				m.look.Phase = phase
-				if !slices.Contains(types, orderType) {
-					want = api.Phase
-				}
-				c := wire.Command{Kind: wire.New, Id: 2, Side: api.Buy, Type: orderType, Qty: qty, Price: right}
-				if got := m.reason(c); got != want {
-					t.Errorf("P4: phase %d, %+v: %d, want %d", phase, c, got, want)
-				}
-			}
-			look(openMarket(t), noReason, 5)
-			look(openMarket(t), api.Total, 6)
-			m := openMarket(t)
-			m.Send([]byte{1, 0, 0, 0, 1, 1, 1, 0, 0, 0, 1, 0, 0, 0, 1})
-			look(m, api.Full, 1)
-			look(m, api.Full, 6)
-			for want, c := range map[api.Reason]wire.Command{
-				api.Duplicate: {Kind: wire.New, Id: 1, Side: api.Buy, Type: orderType, Qty: 1, Price: right},
-				api.Quantity:  {Kind: wire.New, Id: 2, Side: api.Buy, Type: orderType, Qty: 0, Price: right},
-				api.Price:     {Kind: wire.New, Id: 2, Side: api.Buy, Type: orderType, Qty: 1, Price: wrong},
-			} {
-				if got := m.reason(c); got != want {
-					t.Errorf("P4: phase %d, %+v: %d, want %d", phase, c, got, want)
-				}
-			}
+	for i, want := range []int{4294967294, 4294967295, 0, 1, 2, 3, 4} {
+		if events[i].Seq != want {
+			t.Errorf("a tick: %+v, want the Seq %d", events[i], want)
 		}
 	}
 }

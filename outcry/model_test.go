@@ -1,22 +1,27 @@
 package outcry_test
 
 import (
-	"bytes"
 	"math/rand/v2"
 	"slices"
 	"testing"
 
 	"outcry/api"
-	"outcry/outcry"
 )
 
 // model is the document's words over a plain list, with nothing kept in priority.
 type model struct {
 	config api.Config
 	look   api.Look
-	orders []api.Order
+	orders []api.Order // as they were accepted
 	spent  map[int]int
+	told   []api.Event // by the command that it is at
 }
+
+func newModel(c api.Config) *model {
+	return &model{config: c, look: api.Look{Reference: c.Reference}, spent: map[int]int{}}
+}
+
+func (m *model) tell(events ...api.Event) { m.told = append(m.told, events...) }
 
 func (m *model) sum(count func(o api.Order) bool) int {
 	sum := 0
@@ -40,6 +45,7 @@ func (m *model) v(p int) int { return min(m.d(p), m.s(p)) }
 
 func (m *model) differ(p int) int { return max(m.d(p)-m.s(p), m.s(p)-m.d(p)) }
 
+// call gives what is indicated.
 func (m *model) call() api.Event {
 	prices := []int{m.look.Reference}
 	for _, o := range m.orders {
@@ -89,6 +95,134 @@ func (m *model) oneOf(prices []int) int {
 	return nearest
 }
 
+func isAhead(one, other api.Order) bool {
+	switch {
+	case one.Price == 0 || other.Price == 0:
+		return one.Price == 0 && other.Price != 0
+	case one.Side == 1:
+		return one.Price > other.Price
+	}
+	return one.Price < other.Price
+}
+
+// first gives the place of a side's first order in priority, or -1.
+func (m *model) first(side int) int {
+	first := -1
+	for i, o := range m.orders {
+		if o.Side == side && !o.Waiting && (first < 0 || isAhead(o, m.orders[first])) {
+			first = i
+		}
+	}
+	return first
+}
+
+func (m *model) find(id int) int {
+	return slices.IndexFunc(m.orders, func(o api.Order) bool { return o.Id == id })
+}
+
+// take takes a quantity off an order, which is not live any more without a rest.
+func (m *model) take(id, qty int) {
+	at := m.find(id)
+	m.orders[at].Rest -= qty
+	if m.orders[at].Rest == 0 {
+		m.orders = slices.Delete(m.orders, at, at+1)
+	}
+}
+
+func (m *model) trade(buyer, seller, qty, price int) {
+	m.tell(traded(buyer, seller, qty, price))
+	m.take(buyer, qty)
+	m.take(seller, qty)
+	m.look.Reference = price
+}
+
+func (m *model) cancel(id int) {
+	rest := m.orders[m.find(id)].Rest
+	m.tell(cancelled(id, rest))
+	m.take(id, rest)
+}
+
+func (m *model) isCall() bool { return m.look.Phase == 0 || m.look.Phase == 2 }
+
+// indicate tells the call, if there is one.
+func (m *model) indicate() {
+	if m.isCall() {
+		m.tell(m.call())
+	}
+}
+
+func (m *model) tick(time int) {
+	if time <= m.look.Time {
+		return
+	}
+	m.look.Time = time
+	if m.look.Phase == 0 && time >= m.config.Open {
+		m.uncross()
+		m.turn()
+		m.cancelAll(func(o api.Order) bool { return o.Type == 2 || o.Type == 3 })
+	}
+	if m.look.Phase == 1 && time >= m.config.Close {
+		m.turn()
+		for i := range m.orders {
+			m.orders[i].Waiting = false
+		}
+		m.indicate()
+	}
+	if m.look.Phase == 2 && time >= m.config.End {
+		m.uncross()
+		m.turn()
+		m.cancelAll(func(api.Order) bool { return true })
+	}
+}
+
+func (m *model) turn() {
+	m.look.Phase++
+	m.tell(turned(m.look.Phase))
+}
+
+func (m *model) cancelAll(these func(o api.Order) bool) {
+	for _, o := range slices.Clone(m.orders) {
+		if these(o) {
+			m.cancel(o.Id)
+		}
+	}
+}
+
+func (m *model) uncross() {
+	call := m.call()
+	m.tell(uncrossed(call.Price, call.Qty, call.Surplus))
+	for left := call.Qty; left > 0; {
+		buyer, seller := m.orders[m.first(1)], m.orders[m.first(2)]
+		qty := min(buyer.Rest, seller.Rest, left)
+		m.trade(buyer.Id, seller.Id, qty, call.Price)
+		left -= qty
+	}
+}
+
+// meet trades the order that was accepted last.
+func (m *model) meet() {
+	comes := m.orders[len(m.orders)-1]
+	for m.find(comes.Id) >= 0 {
+		at := m.first(3 - comes.Side)
+		if at < 0 {
+			break
+		}
+		resting := m.orders[at]
+		if comes.Type == 1 && (comes.Side == 1 && comes.Price < resting.Price || comes.Side == 2 && comes.Price > resting.Price) {
+			break
+		}
+		qty := min(m.orders[m.find(comes.Id)].Rest, resting.Rest)
+		if comes.Side == 1 {
+			m.trade(comes.Id, resting.Id, qty, resting.Price)
+		} else {
+			m.trade(resting.Id, comes.Id, qty, resting.Price)
+		}
+	}
+	if comes.Type == 2 && m.find(comes.Id) >= 0 {
+		m.cancel(comes.Id)
+	}
+}
+
 // wish is a command ahead of its bytes.
 type wish struct{ kind, id, side, orderType, qty, price int }
 
@@ -105,60 +239,75 @@ func (w wish) bytes() []byte {
 }
 
 func (m *model) obey(w wish) []api.Event {
-	at := slices.IndexFunc(m.orders, func(o api.Order) bool { return o.Id == w.id })
+	m.told = nil
+	at := m.find(w.id)
 	switch {
 	case w.kind == 1:
-		return m.accept(w)
+		m.accept(w)
 	case w.kind == 4:
-		m.look.Time = max(m.look.Time, w.qty)
-		return nil
+		m.tick(w.qty)
 	case at < 0:
-		return []api.Event{rejected(w.id, 3)}
+		m.tell(rejected(w.id, 3))
 	case w.kind == 3 && w.qty == 0:
-		return []api.Event{rejected(w.id, 4)}
+		m.tell(rejected(w.id, 4))
 	case w.kind == 3 && w.qty < m.orders[at].Rest:
 		m.orders[at].Rest -= w.qty
-		return []api.Event{reduced(w.id, w.qty), m.call()}
+		m.tell(reduced(w.id, w.qty))
+		m.indicate()
+	default:
+		m.cancel(w.id)
+		m.indicate()
 	}
-	rest := m.orders[at].Rest
-	m.orders = slices.Delete(m.orders, at, at+1)
-	return []api.Event{cancelled(w.id, rest), m.call()}
+	m.look.Seq += len(m.told)
+	return m.told
 }
 
-func (m *model) accept(w wish) []api.Event {
-	no := func(reason api.Reason) []api.Event { return []api.Event{rejected(w.id, reason)} }
+func (m *model) accept(w wish) {
+	no := func(reason api.Reason) { m.tell(rejected(w.id, reason)) }
 	ofSide := m.sum(func(o api.Order) bool { return o.Side == w.side })
 	hasPrice := w.orderType == 1 || w.orderType == 4
 	switch {
 	case w.side < 1 || w.side > 2 || w.orderType < 1 || w.orderType > 4:
-		return []api.Event{rejected(0, 1)}
+		m.tell(rejected(0, 1))
 	case m.spent[w.id] > 0:
-		return no(2)
+		no(2)
 	case w.qty == 0:
-		return no(4)
+		no(4)
 	case hasPrice && (w.price == 0 || w.price > 1000000) || !hasPrice && w.price != 0:
-		return no(5)
+		no(5)
+	case m.look.Phase == 3 || w.orderType == 3 && m.look.Phase != 0:
+		no(6)
 	case len(m.orders) == m.config.Orders:
-		return no(7)
+		no(7)
 	case ofSide+w.qty > m.config.Total:
-		return no(8)
+		no(8)
+	default:
+		waits := w.orderType == 4 && m.look.Phase < 2
+		m.spent[w.id]++
+		m.orders = append(m.orders, api.Order{Id: w.id, Side: w.side, Type: w.orderType, Price: w.price, Rest: w.qty, Waiting: waits})
+		m.tell(accepted(w.id, w.qty))
+		if m.look.Phase == 1 && !waits {
+			m.meet()
+		}
+		m.indicate()
 	}
-	m.spent[w.id]++
-	m.orders = append(m.orders, api.Order{Id: w.id, Side: w.side, Type: w.orderType, Price: w.price, Rest: w.qty, Waiting: w.orderType == 4})
-	return []api.Event{accepted(w.id, w.qty), m.call()}
 }
 
-func anyWish(dice *rand.Rand, ids int) wish {
-	w := wish{kind: 1, id: dice.IntN(ids), side: 1 + dice.IntN(2), orderType: 1, qty: 1 + dice.IntN(9), price: 95 + dice.IntN(10)}
+// anyWish draws the nth command, at a time: mostly good ones, of few ids and prices, so that they meet.
+func anyWish(dice *rand.Rand, n, time int) wish {
+	w := wish{kind: 1, id: n, side: 1 + dice.IntN(2), orderType: 1, qty: 1 + dice.IntN(9), price: 95 + dice.IntN(10)}
+	if dice.IntN(20) == 0 {
+		w.id = dice.IntN(n + 1)
+	}
+	late := max(0, n-dice.IntN(12))
 	switch dice.IntN(10) {
 	case 0:
-		w.kind = 2
+		w.kind, w.id = 2, late
 	case 1:
-		w.kind = 3
-		w.qty = dice.IntN(5)
+		w.kind, w.id, w.qty = 3, late, dice.IntN(5)
 	case 2:
 		w.kind = 4
-		w.qty = dice.IntN(10)
+		w.qty = anyTime(dice, time)
 	case 3, 4:
 		w.orderType = 2 + dice.IntN(2)
 		w.price = dice.IntN(10) / 9
@@ -172,173 +321,66 @@ func anyWish(dice *rand.Rand, ids int) wish {
 	return w
 }
 
+// anyTime is mostly a little behind a time, and now and then ahead of it, at it, or far behind it.
+func anyTime(dice *rand.Rand, time int) int {
+	switch dice.IntN(40) {
+	case 0, 1, 2:
+		return dice.IntN(time + 1)
+	case 3:
+		return time + dice.IntN(40)
+	}
+	return min(time+dice.IntN(4), top)
+}
+
+// anyConfig has limits that are now and then met, and phases of many lengths.
+func anyConfig(dice *rand.Rand) api.Config {
+	opens := 1 + dice.IntN(8)
+	closes := opens + 1 + dice.IntN(8)
+	return api.Config{
+		Reference: 90 + dice.IntN(20), Open: opens, Close: closes, End: closes + 1 + dice.IntN(8),
+		Orders: 1 + dice.IntN(24), Total: 1 + dice.IntN(150),
+	}
+}
+
 func TestAgainstTheModel(t *testing.T) {
 	dice := rand.New(rand.NewPCG(5, 6))
-	for range 600 {
-		c := plainConfig()
-		c.Reference = 90 + dice.IntN(20)
-		c.Orders = 1 + dice.IntN(24)
-		c.Total = 1 + dice.IntN(150)
-		m := &model{config: c, look: api.Look{Reference: c.Reference}, spent: map[int]int{}}
-		p := start(t, c)
-		for range 100 {
-			w := anyWish(dice, 60)
-			p.send(w.bytes(), m.obey(w)...)
-			m.look.Seq = p.seq
-			p.wantOrders(m.orders...)
-			p.wantLook(m.look)
-			wantMostVolume(t, m)
+	seen := map[[2]int]int{} // by phase and kind of event
+	for range 1500 {
+		c := anyConfig(dice)
+		m, p := newModel(c), start(t, c)
+		for n := range 150 {
+			stepBoth(p, m, anyWish(dice, n, m.look.Time))
+			for _, e := range m.told {
+				seen[[2]int{m.look.Phase, e.Kind}]++
+			}
+		}
+	}
+	for phase, kinds := range [][]int{{1, 2, 4, 5, 6}, {1, 2, 3, 4, 5, 7, 8}, {1, 2, 4, 5, 6, 8}, {2, 3, 4, 7, 8}} {
+		for _, kind := range kinds {
+			if n := seen[[2]int{phase, kind}]; n < 200 {
+				t.Errorf("the drawn commands made %d events of the kind %d in the phase %d: too few", n, kind, phase)
+			}
 		}
 	}
 }
 
-// wantMostVolume holds the call's volume against that of prices of all kinds,
-// not of the candidates alone.
-func wantMostVolume(t *testing.T, m *model) {
-	t.Helper()
-	call := m.call()
-	for _, p := range []int{1, 2, 89, 1000000} {
-		if m.v(p) > call.Qty {
-			t.Fatalf("P10: orders %+v: V(%d) = %d, above that of the call's price, %+v", m.orders, p, m.v(p), call)
-		}
-	}
-	for p := 90; p <= 110; p++ {
-		if m.v(p) > call.Qty {
-			t.Fatalf("P10: orders %+v: V(%d) = %d, above that of the call's price, %+v", m.orders, p, m.v(p), call)
-		}
-	}
+// stepBoth sends a command, and wants what the model answers.
+func stepBoth(p *play, m *model, w wish) {
+	p.t.Helper()
+	p.send(w.bytes(), m.obey(w)...)
+	p.wantOrders(m.orders...)
+	p.wantLook(m.look)
 }
 
-// isCommand tells whether bytes are one, by their length and first byte, side and type.
-func isCommand(b []byte) bool {
-	if len(b) == 0 || b[0] < 1 || b[0] > 4 || len(b) != []int{0, 15, 5, 9, 5}[b[0]] {
-		return false
-	}
-	return b[0] != 1 || (b[5] == 1 || b[5] == 2) && 1 <= b[6] && b[6] <= 4
-}
-
-// checkSend holds of any bytes at all.
-func checkSend(t *testing.T, m *outcry.Market, b []byte) {
-	t.Helper()
-	before := m.Look()
-	told := m.Send(b)
-	events, errno, _ := outcry.Decode(told)
-	if errno != api.OK {
-		t.Fatalf("P4: Send(%v) = %v, which Decode does not read: %d", b, told, errno)
-	}
-	for i, e := range events {
-		if e.Seq != before.Seq+1+i {
-			t.Errorf("P4: Send(%v): %+v, behind the Seq %d", b, events, before.Seq)
+// FuzzAgainstTheModel reads six bytes as a command.
+func FuzzAgainstTheModel(f *testing.F) {
+	f.Add([]byte("\x01\x01\x01\x01\x05\x64\x01\x02\x02\x01\x03\x63\x04\x00\x00\x00\x0a\x00\x01\x03\x02\x02\x05\x00\x04\x00\x00\x00\x1e\x00"))
+	f.Fuzz(func(t *testing.T, b []byte) {
+		m, p := newModel(plainConfig()), start(t, plainConfig())
+		for len(b) >= 6 {
+			w := wish{kind: 1 + int(b[0])%4, id: int(b[1]), side: int(b[2]) % 4, orderType: int(b[3]) % 6, qty: int(b[4]), price: int(b[5])}
+			stepBoth(p, m, w)
+			b = b[6:]
 		}
-	}
-	if seq := m.Look().Seq; seq != before.Seq+len(events) {
-		t.Errorf("P8: Look().Seq is %d behind %d events, and was %d", seq, len(events), before.Seq)
-	}
-	malformed := slices.ContainsFunc(events, func(e api.Event) bool { return e.Reason == 1 })
-	if malformed == isCommand(b) || malformed && (len(events) != 1 || events[0].Id != 0) {
-		t.Errorf("P4: Send(%v): %+v", b, events)
-	}
-}
-
-func TestSendOfAnyBytes(t *testing.T) {
-	dice := rand.New(rand.NewPCG(7, 8))
-	p := start(t, plainConfig())
-	for range 30000 {
-		b := make([]byte, []int{0, 1, 4, 5, 6, 8, 9, 10, 14, 15, 16, 40}[dice.IntN(12)])
-		for i := range b {
-			b[i] = byte(dice.IntN([]int{2, 6, 256}[dice.IntN(3)]))
-		}
-		// Time stays ahead of the opening.
-		if len(b) == 5 && b[0] == 4 {
-			clear(b[1:4])
-			b[4] %= 10
-		}
-		checkSend(t, p.m, b)
-	}
-	for first := range 256 {
-		for second := range 256 {
-			checkSend(t, p.m, []byte{byte(first), byte(second)})
-		}
-	}
-}
-
-func FuzzSend(f *testing.F) {
-	for _, c := range goodCommands() {
-		f.Add(c, c)
-	}
-	f.Fuzz(func(t *testing.T, one, other []byte) {
-		p := start(t, plainConfig())
-		checkSend(t, p.m, one)
-		checkSend(t, p.m, other)
-		p.m.Orders()
 	})
-}
-
-// sent are commands of which each makes another answer, accepted, rejected or malformed.
-func sent() [][]byte {
-	return [][]byte{
-		newOrder(1, buy, limit, 4, 100), newOrder(1, buy, limit, 4, 100), newOrder(2, sell, atClose, 4, 100),
-		newOrder(3, sell, market, 2, 0), reduce(1, 1), reduce(1, 0), cancel(9), tick(3), tick(3)[:3], nil, {9},
-		append(cancel(1), 1), newOrder(4, 3, limit, 1, 1), cancel(1),
-	}
-}
-
-func TestSendWritesNothingAndKeepsNothing(t *testing.T) {
-	kept, spoiled := start(t, plainConfig()), start(t, plainConfig())
-	for _, c := range sent() {
-		room := append(slices.Clone(c), bytes.Repeat([]byte{77}, 40)...)
-		before := slices.Clone(room)
-		handed := room[:len(c)]
-		told := spoiled.m.Send(handed)
-		if !bytes.Equal(room, before) {
-			t.Errorf("P2: Send(%v) wrote into what it was handed, or behind it", c)
-		}
-		if shares(room, told[:cap(told)]) {
-			t.Errorf("P2: the answer of Send(%v) shares memory with its argument", c)
-		}
-		// With the room behind it or not, and whatever becomes of it later: the same answer.
-		clear(room)
-		if want := kept.m.Send(slices.Clip(slices.Clone(c))); !bytes.Equal(told, want) {
-			t.Errorf("P2: Send(%v) = %v, and without room behind it %v", c, told, want)
-		}
-		if !slices.Equal(kept.m.Orders(), spoiled.m.Orders()) || kept.m.Look() != spoiled.m.Look() {
-			t.Errorf("P2: what Send(%v) was handed is kept", c)
-		}
-	}
-}
-
-func TestWhatSendAndOrdersGiveIsNewMemory(t *testing.T) {
-	whole, spoiled := start(t, plainConfig()), start(t, plainConfig())
-	var told [][]byte
-	var orders [][]api.Order
-	for _, c := range sent() {
-		want, got := whole.m.Send(c), spoiled.m.Send(c)
-		if !bytes.Equal(got, want) {
-			t.Errorf("P2: Send(%v) = %v, want %v: an earlier answer was written over", c, got, want)
-		}
-		wantOrders, gotOrders := whole.m.Orders(), spoiled.m.Orders()
-		if !slices.Equal(gotOrders, wantOrders) {
-			t.Errorf("P2: Orders() = %+v, want %+v: an earlier answer was written over", gotOrders, wantOrders)
-		}
-		told, orders = append(told, got), append(orders, gotOrders)
-		for i := range got[:cap(got)] {
-			got[:cap(got)][i] = 77
-		}
-		for i := range gotOrders[:cap(gotOrders)] {
-			gotOrders[:cap(gotOrders)][i] = api.Order{Id: 77, Side: 77, Rest: 77}
-		}
-	}
-	wantNoneShared(t, "Send", told...)
-	wantNoneShared(t, "Orders", orders...)
-}
-
-// Two markets that are told the same things in turns answer the same, and a third one is none the wiser.
-func TestMarketsShareNothing(t *testing.T) {
-	one, other, idle := start(t, plainConfig()), start(t, plainConfig()), start(t, plainConfig())
-	for _, c := range sent() {
-		if a, b := one.m.Send(c), other.m.Send(c); !bytes.Equal(a, b) {
-			t.Errorf("P2: Send(%v) = %v and %v, of two markets that were told the same", c, a, b)
-		}
-	}
-	wantNew(t, idle.m, plainConfig())
 }

@@ -23,8 +23,7 @@ func New(c api.Config) (*Market, api.Errno) {
 	return &Market{config: c, look: look, book: book.New()}, api.OK
 }
 
-// Send takes a command, and tells the events that it makes (P4 to P6). The
-// phase does not turn yet: a tick does no more than set the time.
+// Send takes a command, and tells the events that it makes (P4 to P7).
 func (m *Market) Send(command []byte) (told []byte) {
 	defer func() {
 		if gaveUp := recover(); gaveUp != nil {
@@ -39,7 +38,13 @@ func (m *Market) Send(command []byte) (told []byte) {
 }
 
 // Orders tells the live orders (P8).
-func (m *Market) Orders() []api.Order { return m.book.Orders() }
+func (m *Market) Orders() []api.Order {
+	var orders []api.Order
+	for _, o := range m.book.Live() {
+		orders = append(orders, o.Order)
+	}
+	return orders
+}
 
 // Look tells how the market stands (P8).
 func (m *Market) Look() api.Look { return m.look }

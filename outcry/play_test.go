@@ -35,6 +35,32 @@ func indicated(price, volume int, surplus int64) api.Event {
 	return api.Event{Kind: 6, Price: price, Qty: volume, Surplus: surplus}
 }
 
+func uncrossed(price, volume int, surplus int64) api.Event {
+	return api.Event{Kind: 7, Price: price, Qty: volume, Surplus: surplus}
+}
+
+func traded(buyer, seller, qty, price int) api.Event {
+	return api.Event{Kind: 3, Buyer: buyer, Seller: seller, Qty: qty, Price: price}
+}
+
+func turned(phase int) api.Event { return api.Event{Kind: 8, Phase: phase} }
+
+// roomyConfig has limits that are not met.
+func roomyConfig() api.Config {
+	return api.Config{Reference: 100, Open: 10, Close: 20, End: 30, Orders: 24, Total: 1000}
+}
+
+// startIn starts a market without orders at the first time of a phase.
+func startIn(t *testing.T, phase int, c api.Config) *play {
+	t.Helper()
+	p := start(t, c)
+	p.do(tick([]int{0, c.Open, c.Close, c.End}[phase]))
+	if got := p.m.Look().Phase; got != phase {
+		t.Fatalf("P7: the phase is %d, want %d", got, phase)
+	}
+	return p
+}
+
 // play is a market, and the Seq that its last event must have had.
 type play struct {
 	t   *testing.T
@@ -79,6 +105,22 @@ func (p *play) refuse(command []byte, id int, reason api.Reason) {
 	look.Seq++
 	p.wantOrders(orders...)
 	p.wantLook(look)
+}
+
+// do sends commands whose events do not matter here.
+func (p *play) do(commands ...[]byte) {
+	p.t.Helper()
+	for _, c := range commands {
+		p.m.Send(c)
+	}
+	p.seq = p.m.Look().Seq
+}
+
+func (p *play) wantReference(want int) {
+	p.t.Helper()
+	if got := p.m.Look().Reference; got != want {
+		p.t.Fatalf("P8: the reference is %d, want %d", got, want)
+	}
 }
 
 func (p *play) wantOrders(want ...api.Order) {

@@ -28,7 +28,7 @@ func (m *Market) reasonOfNew(c wire.Command) api.Reason {
 		return api.Quantity
 	case !isPriceOf(c.Type, c.Price):
 		return api.Price
-	case !isTypeIn(m.look.Phase, c.Type):
+	case !m.rules().admits(c.Type):
 		return api.Phase
 	case m.book.Count() >= m.config.Orders:
 		return api.Full
@@ -56,16 +56,12 @@ func (m *Market) reasonOfReduce(c wire.Command) api.Reason {
 }
 
 func isPriceOf(orderType, price int) bool {
-	if orderType == api.Limit || orderType == api.Loc {
+	if hasPrice(orderType) {
 		return isFromOneTo(api.MaxPrice, price)
 	}
 	return price == 0
 }
 
-// isTypeIn tells whether orders of a type come in at a phase.
-func isTypeIn(phase, orderType int) bool {
-	if orderType == api.Moo {
-		return phase == api.Opening
-	}
-	return phase != api.Closed
+func hasPrice(orderType int) bool {
+	return orderType == api.Limit || orderType == api.Loc
 }

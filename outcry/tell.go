@@ -2,6 +2,7 @@ package outcry
 
 import (
 	"outcry/api"
+	"outcry/book"
 	"outcry/wire"
 )
 
@@ -24,7 +25,7 @@ func rejected(id int, reason api.Reason) api.Event {
 	return api.Event{Kind: api.Rejected, Id: id, Reason: reason}
 }
 
-func (m *Market) indicated() api.Event {
-	call := m.book.Call(m.look.Reference)
-	return api.Event{Kind: api.Indicated, Price: call.Price, Qty: call.Volume, Surplus: call.Surplus}
+// calledAs tells what a call comes to, as Indicated or as Uncrossed.
+func calledAs(kind int, call book.Call) api.Event {
+	return api.Event{Kind: kind, Price: call.Price, Qty: call.Volume, Surplus: call.Surplus}
 }
